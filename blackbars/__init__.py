@@ -1,0 +1,1 @@
+"""Blackbars: masked logs, and what they still tell."""

@@ -1,0 +1,43 @@
+"""Characters, words, shown words, lines and logs, and the order of words and logs."""
+
+LETTERS = "abcdefghijklmnopqrstuvwxyz"
+DIGITS = "0123456789"
+CHARACTERS = "-0123456789abcdefghijklmnopqrstuvwxyz"
+SHOWN_CHARACTERS = "*-0123456789abcdefghijklmnopqrstuvwxyz"
+
+
+def _is_made_of(characters, value):
+    return isinstance(value, str) and value != "" and all([char in characters for char in value])
+
+
+def is_word(value):
+    """Return whether any value is a word."""
+    return _is_made_of(CHARACTERS, value)
+
+
+def is_shown(value):
+    """Return whether any value is a shown word."""
+    return _is_made_of(SHOWN_CHARACTERS, value)
+
+
+def is_line(value):
+    """Return whether any value is a line."""
+    return isinstance(value, list) and all([is_word(word) for word in value])
+
+
+def is_log(value):
+    """Return whether any value is a log."""
+    return isinstance(value, list) and all([is_line(line) for line in value])
+
+
+def word_key(word):
+    """Return a tuple by which Python sorts words: shorter ones first."""
+    return (len(word), word)
+
+
+def log_key(log):
+    """Return a tuple by which Python sorts logs: fewer lines, words and characters first."""
+    words = [word for line in log for word in line]
+    many_chars = sum([len(word) for word in words])
+    # Tuples compare as lists do, and the key stays as it is when the log is changed.
+    return (len(log), len(words), many_chars, tuple([tuple(line) for line in log]))

@@ -1,0 +1,91 @@
+"""The limits of LANGUAGE.md that can be read off the files of the package."""
+
+import ast
+import builtins
+import pathlib
+import sys
+import unittest
+
+PACKAGE = pathlib.Path(__file__).parent.parent / "blackbars"
+BUILTINS = {
+    "len", "range", "enumerate", "zip", "min", "max", "sum", "abs", "sorted", "reversed", "int", "str", "bool",
+    "list", "tuple", "dict", "set", "isinstance", "any", "all", "ValueError",
+}
+NODES = (
+    ast.Global, ast.AsyncFunctionDef, ast.AsyncFor, ast.AsyncWith, ast.Await, ast.Import, ast.Div, ast.MatMult,
+)
+
+
+def parts_of(tree, kind):
+    return [node for node in ast.walk(tree) if isinstance(node, kind)]
+
+
+class LanguageTest(unittest.TestCase):
+    def files(self):
+        files = sorted(path for path in PACKAGE.iterdir() if path.name != "__pycache__")
+        self.assertGreater(len(files), 1)
+        return [(path, path.read_text(encoding="utf-8")) for path in files]
+
+    def test_files(self):
+        for path, _ in self.files():
+            self.assertRegex(path.name, r"\A[a-z0-9_]+\.py\Z")
+            self.assertNotIn(path.stem, sys.stdlib_module_names)
+
+    def test_sizes_and_characters(self):
+        for path, text in self.files():
+            lines = text.splitlines()
+            self.assertLessEqual(len(lines), 399, path)
+            self.assertLessEqual(max(map(len, lines)), 120, path)
+            self.assertLessEqual(set(text), {"\n", *map(chr, range(32, 127))}, path)
+            for function in parts_of(ast.parse(text), ast.FunctionDef):
+                self.assertLessEqual(function.end_lineno - function.lineno + 1, 40, (path, function.name))
+
+    def test_imports(self):
+        for path, text in self.files():
+            for node in parts_of(ast.parse(text), ast.ImportFrom):
+                self.assertEqual(node.level, 0, path)
+                self.assertEqual(node.module.split(".")[0], "blackbars", path)
+                target = ast.parse((PACKAGE / (node.module.split(".")[1] + ".py")).read_text(encoding="utf-8"))
+                self.assertLessEqual({alias.name for alias in node.names}, defined_names(target), path)
+
+    def test_statements_and_values(self):
+        for path, text in self.files():
+            tree = ast.parse(text)
+            self.assertEqual(parts_of(tree, NODES), [], path)
+            for node in parts_of(tree, ast.Constant):
+                self.assertNotIsInstance(node.value, (float, complex), path)
+
+    def test_builtins(self):
+        for path, text in self.files():
+            tree = ast.parse(text)
+            names = parts_of(tree, ast.Name)
+            stored = {node.id for node in names if isinstance(node.ctx, ast.Store)}
+            stored |= {node.arg for node in parts_of(tree, ast.arg)} | bound_names(tree)
+            loaded = {node.id for node in names if isinstance(node.ctx, ast.Load)}
+            self.assertLessEqual(loaded - stored, BUILTINS, path)
+            self.assertEqual(stored & set(dir(builtins)), set(), path)
+
+    def test_generator_expressions(self):
+        # Classes with == and other operators are to come: any, all and sorted take lists beside them.
+        for path, text in self.files():
+            self.assertEqual(parts_of(ast.parse(text), ast.GeneratorExp), [], path)
+
+
+def bound_names(tree):
+    """Return the names that a file binds at module level, those of imports included."""
+    return defined_names(tree) | {alias.name for node in parts_of(tree, ast.ImportFrom) for alias in node.names}
+
+
+def defined_names(tree):
+    """Return the names that a file itself defines at module level."""
+    names = set()
+    for node in tree.body:
+        if isinstance(node, (ast.FunctionDef, ast.ClassDef)):
+            names.add(node.name)
+        elif isinstance(node, ast.Assign):
+            names |= {target.id for target in node.targets}
+    return names
+
+
+if __name__ == "__main__":
+    unittest.main()
