@@ -1,6 +1,7 @@
 """Promises 2 and 4: runs, pieces, shapes, and which words fit."""
 
 import itertools
+import random
 import re
 import unittest
 
@@ -57,6 +58,23 @@ def piece_fits(run, piece):
     kind, low, high = run
     return low <= len(piece) and (high is None or len(piece) <= high) and all(
         re.fullmatch(SETS[kind], char) for char in piece)
+
+
+def drawn_run(draw):
+    kind = draw.choice(("letters", "digits", "any", "text"))
+    if kind == "text":
+        return kind, "".join(draw.choice("ab0-") for _ in range(draw.choice((1, 1, 2, 3, 6))))
+    low = draw.choice((0, 0, 0, 1, 1, 2, 3, 6))
+    return kind, low, draw.choice((None, *range(max(low, 1), 7)))
+
+
+def drawn_shapes(seed, many):
+    draw = random.Random(seed)
+    return [tuple(drawn_run(draw) for _ in range(draw.randint(1, 4))) for _ in range(many)]
+
+
+def turned(shape):
+    return tuple(("text", run[1][::-1]) if run[0] == "text" else run for run in shape[::-1])
 
 
 def words_of(size, characters):
@@ -184,6 +202,19 @@ class FitsTest(Case):
             for word in words[::3]:
                 self.assertIs(fits(shape, word), cut(shape, word), (shape, word))
 
+    def test_all_short_words_against_all_cuts(self):
+        words = [word for size in (1, 2) for word in words_of(size, CHARACTERS)]
+        for shape in drawn_shapes(1, 60):
+            found = [word for word in words if fits(shape, word)]
+            self.assertEqual(found, [word for word in words if cut(shape, word)], shape)
+
+    def test_drawn_words_against_all_cuts(self):
+        draw = random.Random(2)
+        for shape in drawn_shapes(3, 400):
+            for size in (1, 2, 3, 4, 5, 6, 9, 14):
+                word = "".join(draw.choice("ab0-z7") for _ in range(size))
+                self.assertIs(fits(shape, word), cut(shape, word), (shape, word))
+
     def test_against_expressions(self):
         words = [word for size in range(1, 5) for word in words_of(size, "ab0-")]
         for shape in SHAPES[::3]:
@@ -297,6 +328,21 @@ class CountWordsTest(Case):
             for word in words:
                 counts[len(word)] += form.fullmatch(word) is not None
             self.assertEqual({size: count_words(shape, size) for size in counts}, counts, shape)
+
+    def test_short_words_against_fits(self):
+        words = {size: words_of(size, CHARACTERS) for size in (1, 2)}
+        for shape in drawn_shapes(4, 100):
+            for size in words:
+                self.assertEqual(count_words(shape, size), sum(fits(shape, word) for word in words[size]), shape)
+
+    def test_any_shape_at_size_200(self):
+        # The longest words, for shapes with many ways to cut them both from the front and from the end.
+        run, long = ("any", 0, None), ("any", 6, 6)
+        self.check((run, ("text", "a"), long, long), 200, 37 ** 199)
+        self.check((long, long, ("text", "a"), run), 200, 37 ** 199)
+        self.check((("letters", 6, None), ("text", "aa"), ("letters", 6, 6), ("any", 0, 6)), 12, 0)
+        for shape in drawn_shapes(5, 100):
+            self.assertEqual(count_words(shape, 200), count_words(turned(shape), 200), shape)
 
     def test_against_all_words_of_three(self):
         words = words_of(3, CHARACTERS)
