@@ -7,7 +7,8 @@ SHOWN_CHARACTERS = "*-0123456789abcdefghijklmnopqrstuvwxyz"
 
 
 def _is_made_of(characters, value):
-    return isinstance(value, str) and value != "" and all([char in characters for char in value])
+    # What strip leaves of a string begins with a character that is none of these.
+    return isinstance(value, str) and value != "" and value.strip(characters) == ""
 
 
 def is_word(value):
@@ -35,9 +36,23 @@ def word_key(word):
     return (len(word), word)
 
 
+def lesser_word(first, second):
+    """Return the lesser one of two words, each of which may be None."""
+    if first is None or (second is not None and word_key(second) < word_key(first)):
+        return second
+    return first
+
+
 def log_key(log):
     """Return a tuple by which Python sorts logs: fewer lines, words and characters first."""
     words = [word for line in log for word in line]
     many_chars = sum([len(word) for word in words])
     # Tuples compare as lists do, and the key stays as it is when the log is changed.
     return (len(log), len(words), many_chars, tuple([tuple(line) for line in log]))
+
+
+def lesser_log(first, second):
+    """Return the lesser one of two logs, each of which may be None."""
+    if first is None or (second is not None and log_key(second) < log_key(first)):
+        return second
+    return first

@@ -67,7 +67,38 @@ class LanguageTest(unittest.TestCase):
             stored |= {node.arg for node in parts_of(tree, ast.arg)} | bound_names(tree)
             loaded = {node.id for node in names if isinstance(node.ctx, ast.Load)}
             self.assertLessEqual(loaded - stored, BUILTINS, path)
-            self.assertEqual(stored & set(dir(builtins)), set(), path)
+            # An interactive example leaves its last answer there as _.
+            self.assertEqual(stored & set(dir(builtins)) - {"_"}, set(), path)
+
+    def test_local_names(self):
+        # No parameter or local variable has the name of an import or a class of its file.
+        for path, text in self.files():
+            tree = ast.parse(text)
+            taken = {alias.name for node in parts_of(tree, ast.ImportFrom) for alias in node.names}
+            taken |= {node.name for node in parts_of(tree, ast.ClassDef)}
+            local = {node.arg for node in parts_of(tree, ast.arg)}
+            local |= {node.id for node in parts_of(tree, ast.Name) if isinstance(node.ctx, ast.Store)}
+            self.assertEqual(taken & local, set(), path)
+
+    def test_names_of_classes(self):
+        # Apart from errors, no name is a method, an attribute and a property of classes at a time.
+        methods, properties, attributes = set(), set(), set()
+        for path, text in self.files():
+            tree = ast.parse(text)
+            for function in [part for made in parts_of(tree, ast.ClassDef) for part in made.body]:
+                if isinstance(function, ast.FunctionDef):
+                    (properties if function.decorator_list else methods).add(function.name)
+            attributes |= {node.attr for node in parts_of(tree, ast.Attribute) if isinstance(node.ctx, ast.Store)}
+        self.assertEqual(methods & properties, set())
+        self.assertEqual((methods | properties) & attributes, set())
+        self.assertEqual(properties, {"views", "secrets"})
+
+    def test_calls(self):
+        # A desk is to have a method add, beside which no set is added to; and lists are sorted by sorted.
+        for path, text in self.files():
+            called = {node.func.attr for node in parts_of(ast.parse(text), ast.Call)
+                      if isinstance(node.func, ast.Attribute)}
+            self.assertEqual(called & {"add", "discard", "sort", "format", "union"}, set(), path)
 
     def test_generator_expressions(self):
         # Classes with == and other operators are to come: any, all and sorted take lists beside them.

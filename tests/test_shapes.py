@@ -6,10 +6,7 @@ import re
 import unittest
 
 from blackbars.shapes import count_words, fits, is_run, is_shape, least_word
-from tests.helper import Case, any_values, nested
-
-CHARACTERS = "-0123456789abcdefghijklmnopqrstuvwxyz"
-SETS = {"letters": "[a-z]", "digits": "[0-9]", "any": "[a-z0-9-]"}
+from tests.helper import CHARACTERS, SETS, Checks, any_values, nested, pattern, words_of
 
 EXAMPLE = """
     >>> from blackbars.shapes import count_words, fits, least_word
@@ -30,18 +27,6 @@ SHAPES = [
     *list(itertools.product(RUNS, RUNS, RUNS))[::7],
     *list(itertools.product(RUNS, RUNS, RUNS, RUNS))[::97],
 ]
-
-
-def pattern(shape):
-    """Return a regular expression for the words of a shape: a second, independent reading of it."""
-    parts = []
-    for run in shape:
-        if run[0] == "text":
-            parts.append(re.escape(run[1]))
-        else:
-            kind, low, high = run
-            parts.append("%s{%d,%s}" % (SETS[kind], low, "" if high is None else high))
-    return re.compile("".join(parts))
 
 
 def cut(shape, word):
@@ -77,16 +62,12 @@ def turned(shape):
     return tuple(("text", run[1][::-1]) if run[0] == "text" else run for run in shape[::-1])
 
 
-def words_of(size, characters):
-    return ["".join(chars) for chars in itertools.product(characters, repeat=size)]
-
-
-class ExampleTest(Case):
+class ExampleTest(Checks):
     def test_example(self):
         self.check_example(EXAMPLE)
 
 
-class RunTest(Case):
+class RunTest(Checks):
     def test_bounds(self):
         for kind in ("letters", "digits", "any"):
             for low in range(-2, 9):
@@ -127,7 +108,7 @@ class RunTest(Case):
             self.check_judged(is_run, value, False)
 
 
-class ShapeTest(Case):
+class ShapeTest(Checks):
     def test_one_to_four_runs(self):
         run = ("letters", 1, None)
         for many in range(8):
@@ -154,7 +135,7 @@ class ShapeTest(Case):
             self.check_judged(is_shape, value, False)
 
 
-class FitsTest(Case):
+class FitsTest(Checks):
     def check(self, shape, words, others):
         for word in words + others:
             with self.subTest(shape=shape, word=word):
@@ -223,7 +204,7 @@ class FitsTest(Case):
                 self.assertIs(fits(shape, word), form.fullmatch(word) is not None, (shape, word))
 
 
-class LeastWordTest(Case):
+class LeastWordTest(Checks):
     def check(self, shape, word):
         with self.subTest(shape=shape):
             self.assertEqual(self.call(least_word, shape=shape), word)
@@ -255,7 +236,7 @@ class LeastWordTest(Case):
             self.check(shape, next(words))
 
 
-class CountWordsTest(Case):
+class CountWordsTest(Checks):
     def check(self, shape, size, many):
         with self.subTest(shape=shape, size=size):
             counted = self.call(count_words, shape=shape, size=size)

@@ -4,7 +4,7 @@ import itertools
 import unittest
 
 from blackbars.words import is_line, is_log, is_shown, is_word, log_key, word_key
-from tests.helper import Case, any_values, nested
+from tests.helper import Checks, any_values, nested
 
 CHARACTERS = "abcdefghijklmnopqrstuvwxyz0123456789-"
 
@@ -15,12 +15,12 @@ EXAMPLE = """
 """
 
 
-class ExampleTest(Case):
+class ExampleTest(Checks):
     def test_example(self):
         self.check_example(EXAMPLE)
 
 
-class WordTest(Case):
+class WordTest(Checks):
     def test_each_ascii_character(self):
         for code in range(128):
             char = chr(code)
@@ -49,7 +49,7 @@ class WordTest(Case):
             self.check_judged(is_shown, value, False)
 
 
-class LineTest(Case):
+class LineTest(Checks):
     def test_lines(self):
         for line in ([], ["a"], ["user-", "bob", "7"], ["a", "a"], ["a" * 200] * 50, ["a"] * 300):
             self.check_judged(is_line, line, True)
@@ -67,7 +67,7 @@ class LineTest(Case):
             self.check_judged(is_line, value, value == [])
 
 
-class LogTest(Case):
+class LogTest(Checks):
     def test_logs(self):
         logs = [
             [], [[]], [[], []], [["a"]], [["a", "b"], []], [[], ["a"]], [["a" * 200] * 50] * 50, [["a"]] * 300,
@@ -93,7 +93,7 @@ class LogTest(Case):
         self.check_judged(is_log, nested(3, list), False)
 
 
-class WordKeyTest(Case):
+class WordKeyTest(Checks):
     def check_order(self, key, ascending):
         for low, high in itertools.combinations(ascending, 2):
             self.assertLess(self.call(key, **{key.__name__[:-4]: low}), key(high))
