@@ -22,7 +22,7 @@ def _readings(view, text):
     found = []
     if is_word(text):
         found.append(("keep", 0, exact_shape(text)))
-    if text.strip("*") == "":
+    if text.strip("*") == "" and ("stars",) in [act for _, _, act in view]:
         found.append(("stars", 0, size_shape(len(text))))
     if text[-1] == "*" and is_word(text[:-1]) and len(text) - 1 <= _most(view, "first"):
         found.append(("first", len(text) - 1, begin_shape(text[:-1])))

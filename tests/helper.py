@@ -71,16 +71,16 @@ class Checks(unittest.TestCase):
         with self.subTest(value=repr(value)[:80]):
             self.assertIs(self.call(function, **more, value=value), expected)
 
-    def check_raised(self, error, value, function, **arguments):
+    def check_raised(self, error, kept, function, /, **arguments):
         """Check that a call raises an error with the very value, by name and by position, and changes nothing."""
         plain = {name: part for name, part in arguments.items() if not is_own(part)}
         before = copy.deepcopy(plain)
-        with self.subTest(error=error.__name__, value=repr(value)[:80]):
+        with self.subTest(error=error.__name__, value=repr(kept)[:80]):
             for named in (arguments, {}):
                 with self.assertRaises(BarError) as caught:
                     function(*(() if named else arguments.values()), **named)
                 self.assertIs(type(caught.exception), error)
-                self.assertIs(caught.exception.value, value)
+                self.assertIs(caught.exception.value, kept)
             self.assertEqual(repr(plain), repr(before))
 
     def check_defined(self, module, functions, classes=()):
