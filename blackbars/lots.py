@@ -48,8 +48,10 @@ class Lot:
 
     def least(self):
         """Return the least word, or None."""
-        found = self.words(1)
-        return found[0] if found else None
+        for state, word in self.paths().least_from(0).items():
+            if self.machine.marks[state]:
+                return word
+        return None
 
     def count(self):
         """Return how many words there are, or None for endless."""

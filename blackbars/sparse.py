@@ -40,8 +40,8 @@ def _least_sized_between(part, state, goals, size):
 
 
 def _has_short(part):
-    word = part.lot.least()
-    return word is not None and len(word) < part.front + part.back and part.front > 0 and part.back > 0
+    # Each word of a part is at least as long as its begin and as its end, so that there are both then.
+    return len(part.lot.least()) < part.front + part.back
 
 
 def _least_sized(part, number):

@@ -308,6 +308,10 @@ class LookTest(Checks):
         for value in NO_PLACES:
             self.check_raised(BadPlace, value, CASE.look, log=LOG, spot=(0, 1), place=value)
 
+    def test_spots_are_not_told_from_the_end(self):
+        for spot in ((0, -1), (-1, 1), (-1, -1), (-1, 0), (0, -2)):
+            self.check_raised(BadPlace, spot, CASE.look, log=[["user-", "bob"]], spot=spot, place=0)
+
     def test_drawn(self):
         draw = drawn(6)
         for _ in range(300):

@@ -198,6 +198,13 @@ class FurtherTest(FewestChecks):
         rows = [(2, [["u", "8", "0"]], 1), (3, [["u", "0", "a"]], 2), (9, [["u", "0", "a"]], 2), (10, [["u", "0", "0"]], 9)]
         self.check_numbers(case, [0], 1, rows)
 
+    def test_all_secrets_are_named(self):
+        view = ((("u",), EVERY, ("put", "x")), (("a",), LETTERS, ("put", "z")), (("b",), DIGITS, ("put", "y")))
+        case = Case([view], [(("u",), (("text", "a"),)), (("u",), (("text", "b"),))])
+        self.check_numbers(case, [0], 1, [(2, [["u", "a", "0"]], 1), (3, [["u", "a"]], 2)])
+        case = Case([view], [(("u",), (("text", "b"),)), (("u",), (("text", "c"),))])
+        self.check_numbers(case, [0], 1, [(2, [["u", "b", "0"]], 1), (3, [["u", "b"]], 2)])
+
     def test_a_name_in_a_behind_of_a_secret(self):
         view = (((), LETTERS, ("put", "x")), (("bob",), DIGITS, ("put", "y")))
         case = Case([view], [(("bob", "u"), LETTERS)])

@@ -126,6 +126,23 @@ class NumbersTest(HiddenChecks):
         for word, many in answers:
             self.check_numbers(case, ["x", word], 1, [([0], many)])
 
+    def test_texts_that_read_like_begins_and_ends(self):
+        # Two words are shown as the text that is put for words of four characters, or more, if they are cut there.
+        answers = [
+            (("first", 1), "b*", "b", ["bu"]), (("first", 2), "bo*", "bo", ["bob"]), (("first", 3), "bo*", "bo", []),
+            (("last", 1), "*b", "b", ["ob"]), (("last", 2), "*ob", "ob", ["bob"]), (("last", 3), "*ob", "ob", []),
+            (("last", 3), "*bob", "bob", []), (("first", 3), "bob*", "bob", []), (("last", 2), "*b", "b", []),
+        ]
+        for act, text, word, longer in answers:
+            view = (((), (("text", "zzzz"),), ("put", text)), ((), EVERY, act))
+            case = Case([view], [(("u",), (("text", "zzzz"),)), (("u",), (("text", word),)), (("u",), (("text", "7"),))])
+            self.check_numbers(case, ["u", word], 1, [([0], 2)])
+            self.check_numbers(case, ["u", "zzzz"], 1, [([0], 2)])
+            self.check_numbers(case, ["u", "7"], 1, [([0], 1)])
+            for other in longer:
+                secrets = [(("u",), (("text", "zzzz"),)), (("u",), (("text", word),)), (("u",), (("text", other),))]
+                self.check_numbers(Case([view], secrets), ["u", other], 1, [([0], 3)])
+
     def test_labels_that_fit_the_shape(self):
         case = Case([(((), EVERY, ("first", 1)),)], [(("bob", "user"), (("letters", 1, 3),))])
         self.check_numbers(case, ["user", "bil"], 1, [([0], 1 + 26 + 676 - 1), ([], 26 + 676 + 17576 - 1)])

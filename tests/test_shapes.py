@@ -321,6 +321,9 @@ class CountWordsTest(Checks):
         run, long = ("any", 0, None), ("any", 6, 6)
         self.check((run, ("text", "a"), long, long), 200, 37 ** 199)
         self.check((long, long, ("text", "a"), run), 200, 37 ** 199)
+        self.check((run, ("text", "ab0"), long, long), 200, 37 ** 197)
+        self.check((long, long, ("text", "ab0"), run), 200, 37 ** 197)
+        self.check((run, ("text", "ab"), long, long), 14, 37 ** 12)
         self.check((("letters", 6, None), ("text", "aa"), ("letters", 6, 6), ("any", 0, 6)), 12, 0)
         for shape in drawn_shapes(5, 100):
             self.assertEqual(count_words(shape, 200), count_words(turned(shape), 200), shape)
