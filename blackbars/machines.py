@@ -33,7 +33,7 @@ def _fates(machine, as_first, keep):
     for state, row in enumerate(machine.moves):
         mark = machine.marks[state]
         kept = (keep[2 * mark], keep[2 * mark + 1]) if as_first else (keep[mark], keep[2 + mark])
-        if kept[0] == kept[1] and row.count(state) == len(row):
+        if kept[0] == kept[1] and row[0] == state and row == [state] * len(row):
             found.append(-2 if kept[0] else -1)
         else:
             found.append(0)

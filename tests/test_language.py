@@ -13,6 +13,7 @@ BUILTINS = {
     "super", "property", "NotImplemented", "ValueError", "KeyError", "IndexError", "TypeError",
 }
 LIBRARY = ("heapq", "math", "itertools", "collections")
+CHANGING = ("append", "clear", "extend", "insert", "pop", "remove", "reverse", "setdefault", "sort", "update")
 NODES = (
     ast.Global, ast.AsyncFunctionDef, ast.AsyncFor, ast.AsyncWith, ast.Await, ast.Import, ast.Div, ast.MatMult,
 )
@@ -100,10 +101,68 @@ class LanguageTest(unittest.TestCase):
                       if isinstance(node.func, ast.Attribute)}
             self.assertEqual(called & {"add", "discard", "sort", "format", "union"}, set(), path)
 
+    def test_operators_change_nothing(self):
+        # L5 and L28: what operators, == and properties call, read by names alone, assigns and keeps nothing.
+        called = {}
+        for path, text in self.files():
+            for node in parts_of(ast.parse(text), (ast.FunctionDef, ast.ClassDef)):
+                called.setdefault(node.name, []).append(node)
+        todo = [node for nodes in called.values() for node in nodes if is_plain(node)]
+        self.assertGreater(len(todo), 6)
+        reached = {id(node): node for node in todo}
+        while todo:
+            for name in called_names(todo.pop()):
+                for node in called.get(name, ()):
+                    for part in begun_by(node):
+                        if id(part) not in reached:
+                            reached[id(part)] = part
+                            todo.append(part)
+        for node in reached.values():
+            self.assertEqual(kept_by(node), [], node.name)
+
     def test_generator_expressions(self):
         # Classes with == and other operators are to come: any, all and sorted take lists beside them.
         for path, text in self.files():
             self.assertEqual(parts_of(ast.parse(text), ast.GeneratorExp), [], path)
+
+
+def is_plain(node):
+    """Return whether a function is an operator's method, == or a property."""
+    if not isinstance(node, ast.FunctionDef):
+        return False
+    if node.name.startswith("__"):
+        return node.name not in ("__init__", "__call__", "__iter__", "__enter__", "__exit__")
+    return "property" in [name.id for name in node.decorator_list if isinstance(name, ast.Name)]
+
+
+def called_names(function):
+    """Return the names of all that a function calls, those of methods of whatever object too."""
+    names = [node.func for node in parts_of(function, ast.Call)]
+    return {name.attr if isinstance(name, ast.Attribute) else name.id for name in names
+            if isinstance(name, (ast.Attribute, ast.Name))}
+
+
+def begun_by(node):
+    """Return the list of the functions that run if a function, or a class, is called."""
+    if isinstance(node, ast.FunctionDef):
+        return [node]
+    return [part for part in node.body if isinstance(part, ast.FunctionDef) and part.name == "__init__"]
+
+
+def kept_by(function):
+    """Return what a function changes of attributes and of items of them, its own object's in __init__ aside."""
+    found = []
+    changed = [node.func for node in parts_of(function, ast.Call)
+               if isinstance(node.func, ast.Attribute) and node.func.attr in CHANGING]
+    for node in parts_of(function, (ast.Attribute, ast.Subscript)):
+        if isinstance(node.ctx, ast.Load) and node not in changed:
+            continue
+        owner = node.value if isinstance(node, ast.Subscript) or node in changed else node
+        while isinstance(owner, ast.Subscript):
+            owner = owner.value
+        if isinstance(owner, ast.Attribute) and function.name != "__init__":
+            found.append(ast.unparse(node))
+    return found
 
 
 def bound_names(tree):
