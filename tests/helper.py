@@ -10,6 +10,7 @@ import unittest
 
 from blackbars.cases import Case
 from blackbars.errors import BarError
+from blackbars.lots import act_lot, every_lot, none_lot, shape_lot, size_lot, word_lot
 
 CHARACTERS = "-0123456789abcdefghijklmnopqrstuvwxyz"
 SETS = {"letters": "[a-z]", "digits": "[0-9]", "any": "[a-z0-9-]"}
@@ -265,3 +266,62 @@ def drawn_log(draw, case, words="ab0-"):
 
 def drawn(seed):
     return random.Random(seed)
+
+
+def names_of(*views):
+    """Return the list of all words that rules of views name: words ahead, and texts that are put."""
+    names = {name for view in views for behind, _, _ in view for name in behind}
+    names |= {act[1] for view in views for _, _, act in view if act[0] == "put" and "*" not in act[1]}
+    return sorted(names - {""})
+
+
+def done_lots(view, ahead):
+    """Return the lots of the words for which each rule of a view is done behind a string, and that of the others."""
+    rest, found = every_lot(), []
+    for behind, shape, _ in view:
+        lot = shape_lot(shape) if behind == () or ahead in behind else none_lot()
+        found.append(rest & lot)
+        rest = rest - lot
+    return [*found, rest]
+
+
+def same_lot(first, second):
+    """Return the lot of the words of which two acts show the same."""
+    if first == second:
+        return every_lot()
+    if first[0] == "put" or second[0] == "put":
+        text, act = (first[1], second) if first[0] == "put" else (second[1], first)
+        return act_lot(act, [text])
+    found = none_lot()
+    if first[0] == second[0]:
+        for size in range(1, min(first[1], second[1]) + 1):
+            found = found | size_lot(size)
+    return found
+
+
+def secrets_lot(secrets, ahead):
+    """Return the lot of the words that are secret behind a string."""
+    found = none_lot()
+    for behind, shape in secrets:
+        if ahead in behind:
+            found = found | shape_lot(shape)
+    for behind, _ in secrets:
+        for name in behind:
+            found = found - word_lot(name) if name else found
+    return found
+
+
+def aheads_of(names):
+    """Return "", some words, and the least other word: what rules that name some words may have ahead."""
+    other = next(word for word in words_up_to(2) if word not in names)
+    return ["", *sorted({*names, other} - {""})]
+
+
+def least_line(aheads, lot_behind):
+    """Return the least log of one line that ends with a word of the lot behind the string ahead of it, or None."""
+    logs = []
+    for ahead in aheads:
+        word = lot_behind(ahead).least()
+        if word is not None:
+            logs.append([[ahead, word] if ahead else [word]])
+    return min(logs, key=lambda log: (len(log[0]), len("".join(log[0])), log), default=None)
