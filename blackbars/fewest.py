@@ -1,7 +1,7 @@
 """Where a secret is hidden among the fewest words."""
 
 from blackbars.atlas import atlas_of
-from blackbars.cases import MOST_NUMBER, check_number
+from blackbars.cases import MOST_NUMBER, ahead_of, check_number, word_behind
 from blackbars.sparse import least_below, least_many
 from blackbars.words import lesser_log, lesser_word
 
@@ -40,18 +40,36 @@ def _told_apart(sight):
     return sight.worked_out["told apart"]
 
 
-def _least_line(sight, ahead, number):
-    """Return the least log with a secret behind a word that is hidden among fewer words than a number, or None."""
-    begin = [] if ahead == "" else [ahead]
+def _begin(ahead):
+    return [] if ahead == "" else [ahead]
+
+
+def _least_alone(sight, ahead, number):
+    """Return the least log that ends with a secret behind a word that is hidden among fewer words, or None."""
     word = None
     for part in sight.parts():
         word = lesser_word(word, least_below(part, number))
-    if word is not None:
-        return [begin + [word]]
+    return None if word is None else [_begin(ahead) + [word]]
+
+
+def _least_before(sight, ahead, number):
+    """Return the least log with such a secret and a word behind it that tells it apart from others, or None."""
     best = None
     for found, further, many in _told_apart(sight):
         if many < number:
-            best = lesser_log(best, [begin + [found, further]])
+            best = lesser_log(best, [_begin(ahead) + [found, further]])
+    return best
+
+
+def _least_log(case, places, number):
+    sights = [(ahead, atlas_of(case).sight(ahead, places)) for ahead in atlas_of(case).aheads()]
+    best = None
+    for ahead, sight in sights:
+        best = lesser_log(best, _least_alone(sight, ahead, number))
+    for ahead, sight in sights:
+        # What a further word tells is asked for only where the log is not too long for that.
+        if best is None or len(best[0]) >= len(_begin(ahead)) + 2:
+            best = lesser_log(best, _least_before(sight, ahead, number))
     return best
 
 
@@ -59,16 +77,13 @@ def first_fewer(case, places, number):
     """Return (log, spot, many) for the least log with a secret hidden among fewer words than a number, or None."""
     check_number(number)
     case.check_places(places)
-    best = None
-    for ahead in atlas_of(case).aheads():
-        best = lesser_log(best, _least_line(atlas_of(case).sight(ahead, places), ahead, number))
+    # The word that stands there is always one of those that could.
+    best = _least_log(case, places, number) if number > 1 else None
     if best is None:
         return None
     line, at = case.places(best)[0]
-    words = best[line]
-    further = words[at + 1] if at + 1 < len(words) else None
-    sight = atlas_of(case).sight(words[at - 1] if at > 0 else "", places)
-    return best, (line, at), sight.how_many(words[at], further)
+    sight = atlas_of(case).sight(ahead_of(best[line], at), places)
+    return best, (line, at), sight.how_many(best[line][at], word_behind(best[line], at))
 
 
 def least_number(case, places):
