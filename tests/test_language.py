@@ -92,7 +92,7 @@ class LanguageTest(unittest.TestCase):
             attributes |= {node.attr for node in parts_of(tree, ast.Attribute) if isinstance(node.ctx, ast.Store)}
         self.assertEqual(methods & properties, set())
         self.assertEqual((methods | properties) & attributes, set())
-        self.assertEqual(properties, {"views", "secrets"})
+        self.assertEqual(properties, {"views", "secrets", "sightings"})
 
     def test_calls(self):
         # A desk is to have a method add, beside which no set is added to; and lists are sorted by sorted.

@@ -22,6 +22,10 @@ EXAMPLE = """
 
 KEEP = ("keep",)
 RULE = (("a",), LETTERS, KEEP)
+NO_VIEWS = [
+    [], [RULE], RULE, (list(RULE),), (RULE, None), (RULE, ()), ((RULE,),), {RULE: 1}, (RULE, "keep"), (RULE,) * 7,
+    *[value for value in any_values() if value != () or not isinstance(value, tuple)],
+]
 
 
 class ExampleTest(Checks):
@@ -96,9 +100,8 @@ class ViewTest(Checks):
             self.check_judged(is_view, drawn_view(draw), True)
 
     def test_no_views(self):
-        wrong = [[], [RULE], RULE, (list(RULE),), (RULE, None), (RULE, ()), ((RULE,),), {RULE: 1}, (RULE, "keep")]
-        for value in [*wrong, *any_values()]:
-            self.check_judged(is_view, value, value == () and isinstance(value, tuple))
+        for value in NO_VIEWS:
+            self.check_judged(is_view, value, False)
 
 
 class ShownTest(Checks):
