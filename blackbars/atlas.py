@@ -6,7 +6,7 @@ the word; ("stars", 0) and ("keep", 0) for others; ("out", 0) if nothing is show
 rules show the same exactly if the kinds are equal.
 """
 
-from blackbars.machines import shapes_machine
+from blackbars.machines import char_groups, shapes_machine
 from blackbars.reads import begin_shape, end_shape, exact_shape, size_shape
 from blackbars.shapes import fits
 from blackbars.sights import Sight
@@ -71,8 +71,9 @@ class Atlas:
         """Return the list of the least words that lead to the states."""
         if not self._least_words:
             found = {0: ""}
+            groups = char_groups(self.machine.codes)
             for state, row in enumerate(self.machine.moves):
-                for group, target in zip(self.machine.groups, row):
+                for group, target in zip(groups, row):
                     if target not in found:
                         found[target] = found[state] + group[0]
             self._least_words = [found[state] for state in range(len(self.machine.moves))]

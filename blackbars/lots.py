@@ -1,18 +1,41 @@
-"""Lots: sets of words, endless ones too, each kept as the machine with the fewest states."""
+"""Lots: sets of words, endless ones too, each kept as a machine that marks its words."""
 
-from blackbars.machines import Machine, least_machine, paired, shapes_machine
+from blackbars.chains import begin_machine, end_machine, every_machine, none_machine, size_machine, word_machine
+from blackbars.machines import Machine, are_equal, least_machine, paired, shapes_machine
 from blackbars.paths import Paths
-from blackbars.reads import EVERY, begin_shape, end_shape, exact_shape, shown_shape, size_shape
-from blackbars.words import CHARACTERS, is_word
+from blackbars.reads import EVERY, shown_shape
+from blackbars.words import is_word
 
-BOTH = (0, 0, 0, 1)
-ONE = (0, 1, 1, 1)
-FIRST_ALONE = (0, 0, 1, 0)
+# For what is taken of two lots: whether a word is kept that neither, the second, the first, both have; and which marks
+# decide that alone if they stay, one of the first machine and one of the second.
+BOTH = ((0, 0, 0, 1), (0, 0))
+ONE = ((0, 1, 1, 1), (1, 1))
+FIRST_ALONE = ((0, 0, 1, 0), (0, 1))
+# Machines with more states are told with the fewest there can be; for smaller ones that is not worth the while,
+# unless they are put together with so large a one that their states multiply.
+MOST_LOOSE = 40
+MOST_LOOSE_PAIRS = 600
 
 
-def _combined(first, second, keep):
-    machine = paired(first, second, keep)
-    return least_machine(machine, machine.marks)
+def _settled(machine):
+    return machine if len(machine.moves) <= MOST_LOOSE else least_machine(machine, machine.marks)
+
+
+def _tight(machine):
+    return machine if len(machine.moves) > MOST_LOOSE else least_machine(machine, machine.marks)
+
+
+def _combined(first, second, way):
+    if len(first.moves) * len(second.moves) > MOST_LOOSE_PAIRS:
+        first, second = _tight(first), _tight(second)
+    return _settled(paired(first, second, way[0], way[1]))
+
+
+def _are_equal(first, second):
+    # Where the states are as few as can be, and numbered by least words, equal machines have equal tables.
+    if max(len(first.moves), len(second.moves)) > MOST_LOOSE:
+        return first.codes == second.codes and first.marks == second.marks and first.moves == second.moves
+    return are_equal(first, second)
 
 
 class Lot:
@@ -34,8 +57,7 @@ class Lot:
     def __eq__(self, other):
         if not isinstance(other, Lot):
             return False
-        first, second = self.machine, other.machine
-        return first.marks == second.marks and first.groups == second.groups and first.moves == second.moves
+        return _are_equal(self.machine, other.machine)
 
     def __contains__(self, word):
         return is_word(word) and self.machine.marks[self.machine.run(0, word)] == 1
@@ -48,10 +70,7 @@ class Lot:
 
     def least(self):
         """Return the least word, or None."""
-        for state, word in self.paths().least_from(0).items():
-            if self.machine.marks[state]:
-                return word
-        return None
+        return self.paths().least()
 
     def count(self):
         """Return how many words there are, or None for endless."""
@@ -62,74 +81,63 @@ class Lot:
 
     def count_of(self, size):
         """Return how many words of so many characters there are."""
-        counts = {0: 1}
-        for _ in range(size):
-            counts = self.paths().one_longer(counts)
-        return sum([many for state, many in counts.items() if self.machine.marks[state]])
+        return self.paths().count_of(size)
 
     def words(self, most):
         """Return the list of the least words, in order: so many, or all if there are fewer."""
-        found = []
-        goals = [[mark == 1 for mark in self.machine.marks]]
-        while len(found) < most:
-            goals.append(self.paths().one_further(goals[-1]))
-            if not any(goals[-1]):
-                break
-            if goals[-1][0]:
-                found.extend(self.paths().least_words(0, goals, most - len(found)))
-        return found
+        return self.paths().words(most)
 
 
-def lot_of_shape(shape):
-    """Return the lot of a shape whose runs may be longer than those that a shape may have."""
-    machine, _ = shapes_machine([shape])
-    return marked_lot(machine, [1 if mark else 0 for mark in machine.marks])
-
-
-def marked_lot(machine, marks):
+def loose_lot(machine, marks):
     """Return the lot of the words that lead to the states of a machine that have a mark."""
+    return Lot(_settled(Machine(machine.codes, machine.moves, marks)))
+
+
+def least_lot(machine, marks):
+    """Return the lot as loose_lot does, with the fewest states there can be."""
     return Lot(least_machine(machine, marks))
 
 
 def shape_lot(shape):
     """Return the lot of the words that fit a shape."""
-    return lot_of_shape(shape)
+    machine, _ = shapes_machine([shape])
+    return loose_lot(machine, [1 if mark else 0 for mark in machine.marks])
 
 
 def word_lot(word):
     """Return the lot of one word."""
-    return lot_of_shape(exact_shape(word))
+    return Lot(word_machine(word))
 
 
 def begin_lot(word):
     """Return the lot of the words that begin with a word."""
-    return lot_of_shape(begin_shape(word))
+    return Lot(begin_machine(word))
 
 
 def end_lot(word):
     """Return the lot of the words that end with a word."""
-    return lot_of_shape(end_shape(word))
+    return Lot(end_machine(word))
 
 
 def size_lot(size):
     """Return the lot of the words with so many characters."""
-    return lot_of_shape(size_shape(size))
+    return Lot(size_machine(size))
 
 
 def every_lot():
     """Return the lot of all words."""
-    return lot_of_shape(EVERY)
+    return Lot(every_machine())
 
 
 def none_lot():
     """Return the lot without a word."""
-    return Lot(Machine([CHARACTERS], [[0]], [0]))
+    return Lot(none_machine())
 
 
 def act_lot(act, shown_words):
     """Return the lot of all words of which an act shows a list ([] or [shown word])."""
     shape = shown_shape(act, shown_words)
-    return none_lot() if shape is None else lot_of_shape(shape)
+    return none_lot() if shape is None else shape_lot(shape)
 
 
 def _shows(label, rules, bit_of):
@@ -149,4 +157,4 @@ def view_lot(view, ahead, shown_words):
     shapes = {shape: True for rule in rules for shape in rule if shape is not None}
     machine, bits = shapes_machine(list(shapes))
     bit_of = {shape: bit for shape, bit in zip(list(shapes), bits)}
-    return marked_lot(machine, [_shows(label, rules, bit_of) for label in machine.marks])
+    return loose_lot(machine, [_shows(label, rules, bit_of) for label in machine.marks])

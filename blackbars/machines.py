@@ -1,175 +1,126 @@
 """Machines that read words character by character and mark each word with an integer.
 
 The states are numbered in the order of the least words that lead to them, the state 0 first, where
-no character has been read; so two machines without states that could be one are equal exactly if
-they mark all words alike.
+no character has been read. All states are led to by some word.
 """
 
+from blackbars.least import least_tables
 from blackbars.strips import Strips
-from blackbars.words import CHARACTERS
+from blackbars.words import CHARACTERS, PLACE_OF
 
 MOST_STATES = 3000
+FAR = 1000000000000000
 
 
 class Machine:
-    """Groups of characters that are treated alike, a row of moves (one a group) and a mark for each state."""
+    """The number of the group of each character, a row of moves (one a group) and a mark for each state."""
 
-    def __init__(self, groups, moves, marks):
-        self.groups = groups
+    def __init__(self, codes, moves, marks):
+        self.codes = codes
         self.moves = moves
         self.marks = marks
-        self.group_of = {char: at for at, group in enumerate(groups) for char in group}
 
     def run(self, state, word):
         """Return the state that a word leads to from a state."""
         for char in word:
-            state = self.moves[state][self.group_of[char]]
+            state = self.moves[state][self.codes[PLACE_OF[char]]]
         return state
 
 
-def _fates(machine, as_first, keep):
-    """Return for each state what all pairs with it come to: -1 if nothing is kept from then on, -2 if all, else 0."""
-    found = []
-    for state, row in enumerate(machine.moves):
-        mark = machine.marks[state]
-        kept = (keep[2 * mark], keep[2 * mark + 1]) if as_first else (keep[mark], keep[2 + mark])
-        if kept[0] == kept[1] and row[0] == state and row == [state] * len(row):
-            found.append(-2 if kept[0] else -1)
-        else:
-            found.append(0)
+def least_machine(machine, marks):
+    """Return the machine with the fewest states that marks words as a machine would with other marks."""
+    codes, moves, kept = least_tables(machine.codes, machine.moves, marks)
+    return Machine(codes, moves, kept)
+
+
+def char_groups(codes):
+    """Return the list of the groups of characters, as strings: those with the same code are treated alike."""
+    found = [""] * (max(codes) + 1)
+    for char, code in zip(CHARACTERS, codes):
+        found[code] = found[code] + char
     return found
 
 
 def _common_groups(first, second):
-    """Return the groups that two machines both treat alike, and for each of them its groups in the two."""
-    groups = {}
-    for char in CHARACTERS:
-        key = (first.group_of[char], second.group_of[char])
-        groups[key] = groups.get(key, "") + char
-    return list(groups.values()), list(groups.keys())
+    """Return the codes of the groups that two machines both treat alike, and the groups of each for them."""
+    pairs = list(zip(first.codes, second.codes))
+    kinds = list({pair: True for pair in pairs})
+    number = {pair: at for at, pair in enumerate(kinds)}
+    return [number[pair] for pair in pairs], [pair[0] for pair in kinds], [pair[1] for pair in kinds]
 
 
-def _pairs(first, second, first_fates, second_fates):
-    """Return the groups, the keys and the moves of the states that two machines come to together.
+def _rows(machine, groups, many, deciding):
+    """Return the rows of a machine for some groups, in which each state is told as so many times its number.
 
-    A key is that of both states, or a fate: a pair with a fate is not followed any further.
+    A state that leads to itself alone and has the deciding mark is told as a number that makes each sum with
+    a state of another machine less than 0.
     """
-    groups, group_pairs = _common_groups(first, second)
+    names = [many * state if mark != deciding or row[0] != state or row != [state] * len(row) else -FAR
+             for state, (row, mark) in enumerate(zip(machine.moves, machine.marks))]
+    return names, [[names[row[group]] for group in groups] for row in machine.moves]
+
+
+def _pairs(first, second, deciding):
+    """Return the codes, the keys and the moves of the pairs of states that two machines come to together.
+
+    Deciding are two marks, or None: a pair of a state that keeps this mark has the key -1 and is followed no
+    further. Others have the key of the first state times all of the second machine, and of the second state.
+    """
+    codes, first_groups, second_groups = _common_groups(first, second)
     many = len(second.moves)
-    keys = [first_fates[0] or second_fates[0]]
+    names, first_rows = _rows(first, first_groups, many, deciding[0])
+    other_names, second_rows = _rows(second, second_groups, 1, deciding[1])
+    keys = [max(names[0] + other_names[0], -1)]
     number = {keys[0]: 0}
     moves = []
     while len(moves) < len(keys):
         key = keys[len(moves)]
         if key < 0:
-            moves.append([len(moves)] * len(groups))
+            moves.append([len(moves)] * len(first_groups))
             continue
-        first_state, second_state = divmod(key, many)
-        first_row, second_row = first.moves[first_state], second.moves[second_state]
         row = []
-        for first_group, second_group in group_pairs:
-            one, other = first_row[first_group], second_row[second_group]
-            further = first_fates[one] or second_fates[other] or one * many + other
+        for one, other in zip(first_rows[key // many], second_rows[key % many]):
+            further = one + other if one + other >= 0 else -1
             if further not in number:
                 number[further] = len(keys)
                 keys.append(further)
             row.append(number[further])
         moves.append(row)
-    return groups, keys, moves
+    return codes, keys, moves
 
 
-def paired(first, second, keep):
-    """Return the machine of two with marks 0 and 1; keep has the new mark for 0 and 0, 0 and 1, 1 and 0, 1 and 1."""
-    first_fates, second_fates = _fates(first, True, keep), _fates(second, False, keep)
-    groups, keys, moves = _pairs(first, second, first_fates, second_fates)
-    marks = []
-    for key in keys:
-        first_state, second_state = divmod(key, len(second.moves))
-        if key < 0:
-            marks.append(1 if key == -2 else 0)
-        else:
-            marks.append(keep[2 * first.marks[first_state] + second.marks[second_state]])
-    return Machine(groups, moves, marks)
+def paired(first, second, keep, deciding):
+    """Return the machine of two with marks 0 and 1; keep has the new mark for 0 and 0, 0 and 1, 1 and 0, 1 and 1.
+
+    Whatever follows, the mark does not change any more where the first one keeps the first one of the deciding
+    marks, or the second one the second one.
+    """
+    codes, keys, moves = _pairs(first, second, deciding)
+    many = len(second.moves)
+    decided = keep[2 * deciding[0]]
+    marks = [keep[2 * first.marks[key // many] + second.marks[key % many]] if key >= 0 else decided for key in keys]
+    return Machine(codes, moves, marks)
 
 
-def all_sources(moves):
-    """Return for each state the list of the states from which a character leads to it."""
-    found = [[] for _ in moves]
-    for state, row in enumerate(moves):
-        for target in sorted(set(row)):
-            found[target].append(state)
-    return found
-
-
-def _first_blocks(marks):
-    number = {}
-    for mark in marks:
-        number.setdefault(mark, len(number))
-    return [number[mark] for mark in marks]
-
-
-def _split(moves, blocks, touched):
-    """Return for each block that has touched states these states, in lists by the blocks that they move to."""
-    parts = {}
-    for state in touched:
-        key = (blocks[state], tuple([blocks[target] for target in moves[state]]))
-        parts.setdefault(key, []).append(state)
-    found = {}
-    for key, states in parts.items():
-        found.setdefault(key[0], []).append(states)
-    return found
-
-
-def _blocks(moves, marks):
-    """Return for each state the number of its block: the states that mark alike whatever follows."""
-    blocks = list(_first_blocks(marks))
-    sizes = [0] * (max(blocks) + 1)
-    for block in blocks:
-        sizes[block] = sizes[block] + 1
-    sources = all_sources(moves)
-    changed = list(range(len(moves)))
-    while changed:
-        touched = {source: True for state in changed for source in sources[state]}
-        fresh = []
-        for block, parts in _split(moves, blocks, touched).items():
-            largest = max([len(part) for part in parts])
-            # States that are not touched stay together, as they moved alike before and still do.
-            has_stayed = sizes[block] > sum([len(part) for part in parts])
-            for part in parts:
-                if not has_stayed and len(part) == largest:
-                    has_stayed = True
-                    continue
-                sizes[block] = sizes[block] - len(part)
-                for state in part:
-                    blocks[state] = len(sizes)
-                sizes.append(len(part))
-                fresh.extend(part)
-        changed = fresh
-    return blocks
-
-
-def _merged_groups(groups, moves):
-    """Return the groups that all states treat alike, and the rows of moves for them."""
-    places = {}
-    for at in range(len(groups)):
-        places.setdefault(tuple([row[at] for row in moves]), []).append(at)
-    merged = ["".join(sorted("".join([groups[at] for at in alike]))) for alike in places.values()]
-    columns = list(places.keys())
-    return merged, [[column[state] for column in columns] for state in range(len(moves))]
-
-
-def least_machine(machine, marks):
-    """Return the machine with the fewest states that marks words as a machine would with other marks."""
-    blocks = _blocks(machine.moves, marks)
-    number = {}
-    kept = []
-    for state, block in enumerate(blocks):
-        if block not in number:
-            number[block] = len(kept)
-            kept.append(state)
-    moves = [[number[blocks[target]] for target in machine.moves[state]] for state in kept]
-    groups, merged = _merged_groups(machine.groups, moves)
-    return Machine(groups, merged, [marks[state] for state in kept])
+def are_equal(first, second):
+    """Return whether two machines mark all words alike."""
+    if first.codes == second.codes and first.moves == second.moves:
+        return first.marks == second.marks
+    _, first_groups, second_groups = _common_groups(first, second)
+    many = len(second.moves)
+    _, first_rows = _rows(first, first_groups, many, None)
+    _, second_rows = _rows(second, second_groups, 1, None)
+    met = {0: True}
+    todo = [0]
+    while todo:
+        state, other = divmod(todo.pop(), many)
+        if first.marks[state] != second.marks[other]:
+            return False
+        for key in [one + two for one, two in zip(first_rows[state], second_rows[other])]:
+            if key not in met:
+                met[key] = True
+                todo.append(key)
+    return True
 
 
 def _within(strips, limit):
@@ -189,16 +140,16 @@ def _within(strips, limit):
                 all_places.append(further)
             row.append(number[further])
         moves.append(row)
-    return Machine(strips.groups, moves, [0] + [places & ends for places in all_places[1:]])
+    return Machine(strips.codes, moves, [0] + [places & ends for places in all_places[1:]])
 
 
 def _side_by_side(first, second, first_bits, second_bits):
     """Return the machine of two with the marks of both, and the list of the bits of both."""
-    groups, keys, moves = _pairs(first, second, [0] * len(first.moves), [0] * len(second.moves))
+    codes, keys, moves = _pairs(first, second, (None, None))
     shift = max(first_bits).bit_length()
     states = [divmod(key, len(second.moves)) for key in keys]
     marks = [first.marks[one] | (second.marks[other] << shift) for one, other in states]
-    return Machine(groups, moves, marks), first_bits + [bit << shift for bit in second_bits]
+    return Machine(codes, moves, marks), first_bits + [bit << shift for bit in second_bits]
 
 
 def shapes_machine(shapes):

@@ -1,6 +1,8 @@
 """Secrets of which views show the same but for characters at the begin and the end and for the size."""
 
 from blackbars.lots import begin_lot, end_lot, size_lot, word_lot
+from blackbars.machines import char_groups
+from blackbars.words import PLACE_OF
 
 
 class Part:
@@ -15,6 +17,7 @@ class Part:
         # What later questions have worked out, for the next ones.
         self.worked_out = {}
         self._machine = lot.machine
+        self.groups = char_groups(lot.machine.codes)
         self._goal = sum([1 << state for state, mark in enumerate(lot.machine.marks) if mark])
         self._before = {}
         self._counts = {}
@@ -58,7 +61,7 @@ class Part:
         """Return the bits of the states from which a word leads to the end of a word of the part."""
         goals = self._goal
         for char in end[::-1]:
-            goals = self.before(goals, self._machine.group_of[char])
+            goals = self.before(goals, self._machine.codes[PLACE_OF[char]])
         return goals
 
     def between(self, state, goals):
@@ -130,9 +133,9 @@ class Part:
         return found
 
     def _moves(self, state):
-        reaching = self.lot.paths().reaching
-        pairs = zip(self._machine.groups, self._machine.moves[state])
-        return [(target, group[0], len(group)) for group, target in pairs if reaching[target]]
+        distances = self.lot.paths().distances()
+        pairs = zip(self.groups, self._machine.moves[state])
+        return [(target, group[0], len(group)) for group, target in pairs if distances[target] is not None]
 
     def all_ends(self):
         """Return a dict from bits of states to tuples (least, how many) of what words of the part may end with.
@@ -148,7 +151,7 @@ class Part:
         for _ in range(self.back):
             longer = {}
             for goals, (word, many) in found.items():
-                for at, group in enumerate(self._machine.groups):
+                for at, group in enumerate(self.groups):
                     further = self.before(goals, at)
                     if further:
                         least, known = longer.get(further, (group[0] + word, 0))

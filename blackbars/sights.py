@@ -1,6 +1,6 @@
 """What some views show together of the secrets behind one word, and of a word behind such a secret."""
 
-from blackbars.lots import marked_lot, none_lot, word_lot
+from blackbars.lots import least_lot, none_lot, word_lot
 from blackbars.parts import Part
 from blackbars.words import lesser_word, word_key
 
@@ -39,7 +39,7 @@ class Sight:
         marks = [0] * len(self._atlas.machine.moves)
         for state in states:
             marks[state] = 1
-        return marked_lot(self._atlas.machine, marks)
+        return least_lot(self._atlas.machine, marks)
 
     def all_secrets(self):
         """Return the lot of the secrets."""

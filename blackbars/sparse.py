@@ -5,7 +5,7 @@ the states that the begin leads to and the end comes from, and, if words of the 
 begin and end overlap, on which characters of the two are equal.
 """
 
-from blackbars.words import lesser_word
+from blackbars.words import PLACE_OF, lesser_word
 
 
 def steps_between(part, start, most):
@@ -33,7 +33,7 @@ def sum_at(counts, goals):
 
 
 def _least_sized_between(part, state, goals, size):
-    steps = [[(goals >> at) & 1 == 1 for at in range(len(part.lot.machine.moves))]]
+    steps = [{at: True for at in range(len(part.lot.machine.moves)) if (goals >> at) & 1}]
     for _ in range(size):
         steps.append(part.lot.paths().one_further(steps[-1]))
     return part.lot.paths().least_words(state, steps, 1)[0]
@@ -59,18 +59,19 @@ def _least_sized(part, number):
     return best
 
 
-def _options(machine, text):
+def _options(groups, text):
     """Return the characters to be tried behind a text: those in it and, of each group, the least other one."""
     fresh = []
-    for group in machine.groups:
+    for group in groups:
         others = [char for char in group if char not in text]
         fresh.extend(others[:1])
     return sorted(set(fresh + list(text)))
 
 
-def _kind_text(machine, text):
+def _kind_text(part, text):
     """Return a text with the least character of its group in the place of each character."""
-    return "".join([machine.groups[machine.group_of[char]][0] for char in text])
+    codes = part.lot.machine.codes
+    return "".join([part.groups[codes[PLACE_OF[char]]][0] for char in text])
 
 
 class Ends:
@@ -83,7 +84,7 @@ class Ends:
         found = {"": goals}
         for _ in range(part.back):
             found = {group[0] + text: part.before(known, at) for text, known in found.items()
-                     for at, group in enumerate(self.machine.groups) if part.before(known, at)}
+                     for at, group in enumerate(part.groups) if part.before(known, at)}
         self._goals_of = found
         self._open = {}
 
@@ -111,7 +112,7 @@ class Ends:
         found = [1 << state]
         for _ in range(self.part.front):
             bits = 0
-            for at in range(len(self.machine.groups)):
+            for at in range(len(self.part.groups)):
                 bits = bits | self.part.before(found[-1], at)
             found.append(bits)
         return found
@@ -123,14 +124,14 @@ def _least_short(ends, text, state, size, number):
     if len(text) == size:
         many = part.how_many(text) if ends.machine.marks[state] else None
         return text if many is not None and many < number else None
-    for char in _options(ends.machine, text):
+    for char in _options(part.groups, text):
         longer, target = text + char, ends.machine.run(state, char)
-        if not part.lot.paths().reaching[target]:
+        if part.lot.paths().distances()[target] is None:
             continue
         if len(longer) >= part.front:
             # The word itself is one more than those that are long enough.
             known = ends.open_ends(ends.machine.run(0, longer[:part.front]), number - 2)
-            if _kind_text(ends.machine, longer[size - part.back:]) not in known:
+            if _kind_text(part, longer[size - part.back:]) not in known:
                 continue
         found = _least_short(ends, longer, target, size, number)
         if found is not None:
@@ -144,13 +145,13 @@ def _least_pair(ends, text, state, toward, known, most):
     front = part.front
     if len(text) == front + part.back:
         return text if part.many_short(text[:front], text[front:]) <= most else None
-    for char in _options(ends.machine, text):
+    for char in _options(part.groups, text):
         longer, target = text + char, state
         if len(longer) <= front:
             target = ends.machine.run(state, char)
             if not (toward[front - len(longer)] >> target) & 1:
                 continue
-        elif _kind_text(ends.machine, longer[front:]) not in known:
+        elif _kind_text(part, longer[front:]) not in known:
             continue
         found = _least_pair(ends, longer, target, toward, known, most)
         if found is not None:

@@ -7,6 +7,12 @@ kept together as bits, so that all ways to cut the word, in all shapes, are foll
 
 from blackbars.words import CHARACTERS, DIGITS, LETTERS
 
+# For each character, in order, a sign that is none: for letters, for digits and for any other.
+ALL_KINDS = "ADDDDDDDDDDLLLLLLLLLLLLLLLLLLLLLLLLLL"
+LETTERS_APART = "AAAAAAAAAAALLLLLLLLLLLLLLLLLLLLLLLLLL"
+DIGITS_APART = "ADDDDDDDDDDAAAAAAAAAAAAAAAAAAAAAAAAAA"
+NONE_APART = "AAAAAAAAAAAAAAAAAAAAAAAAAAAAAAAAAAAAA"
+
 
 def _kind_of(char):
     if char in LETTERS:
@@ -16,24 +22,32 @@ def _kind_of(char):
     return "any"
 
 
-def _char_groups(shapes):
-    """Return the groups of characters that the shapes treat alike, as strings, by least characters."""
+def _keys(shapes):
+    """Return for each character a key that is the same for characters that the shapes treat alike."""
     runs = [run for shape in shapes for run in shape]
     texts = "".join([run[1] for run in runs if run[0] == "text"])
     kinds = [run[0] for run in runs if run[0] != "text"]
-    groups = {}
-    for char in CHARACTERS:
-        kind = _kind_of(char)
-        key = char if char in texts else (kind if kind in kinds else "any")
-        groups[key] = groups.get(key, "") + char
-    return list(groups.values())
+    if "letters" in kinds:
+        keys = ALL_KINDS if "digits" in kinds else LETTERS_APART
+    else:
+        keys = DIGITS_APART if "digits" in kinds else NONE_APART
+    if texts:
+        return [char if char in texts else key for char, key in zip(CHARACTERS, keys)]
+    return list(keys)
 
 
 class Strips:
     """Some shapes side by side; their runs may be longer than those that a caller may pass."""
 
     def __init__(self, shapes):
-        self.groups = _char_groups(shapes)
+        keys = _keys(shapes)
+        groups = {}
+        for char, key in zip(CHARACTERS, keys):
+            groups[key] = groups.get(key, "") + char
+        # The groups of characters that the shapes treat alike, by least characters, and the group of each character.
+        self.groups = list(groups.values())
+        number = {key: at for at, key in enumerate(groups)}
+        self.codes = [number[key] for key in keys]
         self.first = 0
         self.ends = []
         # Cells that may be left out; cells that a character leads behind; cells that it leaves one at.

@@ -5,12 +5,12 @@ ahead or as a text that is put. So there is a sample for each word that is named
 word for each set of shapes that a word may fit.
 """
 
-from blackbars.machines import shapes_machine
+from blackbars.machines import char_groups, shapes_machine
 from blackbars.views import shown_by
-from blackbars.words import CHARACTERS, is_word, word_key
+from blackbars.words import CHARACTERS, PLACE_OF, is_word, word_key
 
 
-def _steps_from(machine, word, state, ways):
+def _steps_from(machine, groups, word, state, ways):
     """Return the tuples (longer word, state, whether it leads to a named word), ascending, of which others are copies.
 
     From a word that leads to named words (ways has them and what they begin with) each group of characters has
@@ -18,11 +18,11 @@ def _steps_from(machine, word, state, ways):
     """
     row = machine.moves[state]
     if word not in ways:
-        return [(word + group[0], target, False) for group, target in zip(machine.groups, row)]
+        return [(word + group[0], target, False) for group, target in zip(groups, row)]
     found = []
     has_left = [False] * len(row)
     for char in CHARACTERS:
-        at = machine.group_of[char]
+        at = machine.codes[PLACE_OF[char]]
         stays = word + char in ways
         if stays or not has_left[at]:
             found.append((word + char, row[at], stays))
@@ -34,6 +34,7 @@ def _samples(machine, named):
     """Return the tuples (word, mark), in order, for all named words and the least other word of each mark."""
     ways = {word[:size]: True for word in named for size in range(len(word) + 1)}
     ways[""] = True
+    groups = char_groups(machine.codes)
     found = []
     known = {}
     met = {}
@@ -41,7 +42,7 @@ def _samples(machine, named):
     while words:
         longer = []
         for begin, known_state in words:
-            for word, state, stays in _steps_from(machine, begin, known_state, ways):
+            for word, state, stays in _steps_from(machine, groups, begin, known_state, ways):
                 mark = machine.marks[state]
                 if word in named:
                     found.append((word, mark))

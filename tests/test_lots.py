@@ -1,6 +1,7 @@
 """Promises 2 and 10: lots, how they are made and combined, and what they tell."""
 
 import itertools
+import time
 import unittest
 
 from blackbars import lots
@@ -271,6 +272,124 @@ class TellingTest(LotChecks):
         self.assertEqual(lot.words(2), ["a" + "-" * 10, "a" + "-" * 9 + "0"])
         self.assertEqual(lot - (lot & begin_lot("b")) | (begin_lot("b") & lot), lot)
         self.assertEqual((lot | end_lot("ab" * 90)).count_of(11), 37 ** 10)
+
+
+class MadeAtOnceTest(LotChecks):
+    """Lots of words, begins, ends and sizes are the lots of the shapes that say the same."""
+
+    def runs(self, word):
+        return tuple(("text", word[at:at + 6]) for at in range(0, len(word), 6))
+
+    def test_words_and_their_shapes(self):
+        draw = drawn(8)
+        words = ["-", "--", "-a", "a-", "a", "aa", "aab", "aabaa", "-a-a-", "z", "zz-", "0", "abab", CHARACTERS[:18], CHARACTERS[18:], CHARACTERS[17::-1]]
+        for word in [*words, *(drawn_word(draw, 6) for _ in range(60)), *(drawn_word(draw, 18, CHARACTERS) for _ in range(40))]:
+            texts = self.runs(word)
+            for lot, shape in ((word_lot(word), texts), (begin_lot(word), (*texts, ANY)), (end_lot(word), (ANY, *texts))):
+                other = shape_lot(shape)
+                self.assertIs(lot == other, True)
+                self.assertIs(other == lot, True)
+                self.assertEqual((lot.least(), lot.count(), lot.words(3)), (other.least(), other.count(), other.words(3)))
+                for size in (len(word) - 1, len(word), len(word) + 1, len(word) + 9, 12, 13, 14, 60):
+                    self.assertEqual(lot.count_of(size), other.count_of(size))
+                self.assertEqual((lot - other).least(), None)
+                self.assertEqual((other - lot).least(), None)
+                self.assertIs(lot - word_lot(word + "a") == lot, word + "a" not in lot)
+
+    def test_all_characters(self):
+        for word in (CHARACTERS, CHARACTERS[::-1], CHARACTERS[1:] + "-", CHARACTERS[5:] + CHARACTERS[:6]):
+            for lot in (word_lot(word), begin_lot(word), end_lot(word)):
+                self.assertEqual((lot.least(), lot.words(1), lot.count_of(len(word))), (word, [word], 1))
+            self.assertEqual(begin_lot(word) & end_lot(word) & size_lot(len(word)), word_lot(word))
+            self.assertEqual(begin_lot(word) - begin_lot(word + "a") & size_lot(len(word)), word_lot(word))
+
+    def test_sizes_and_their_shapes(self):
+        for size in range(1, 25):
+            runs = tuple(("any", many, many) for many in (6, 6, 6, 6, size % 6)[4 - size // 6:] if many)[:4]
+            self.assertEqual(sum(run[1] for run in runs), size)
+            self.assertIs(size_lot(size) == shape_lot(runs), True)
+        self.assertIs(every_lot() == shape_lot((ANY,)), True)
+        self.assertIs(none_lot() == every_lot() - every_lot(), True)
+        self.assertEqual([size_lot(60).count_of(size) for size in (59, 60, 61)], [0, 37 ** 60, 0])
+
+    def test_ends_that_overlap(self):
+        for word in ("aa", "aaa", "abab", "aabaabaa", "abcabcabd", "ab" * 50, "aab" * 30 + "aa"):
+            lot = end_lot(word)
+            for begin in ("", "a", "b", "ab", "aab", word[:-1], word[:3], word):
+                self.assertIn(begin + word, lot)
+                self.assertEqual(begin + word[:-1] in lot, (begin + word[:-1]).endswith(word))
+                self.assertEqual(begin + word + word[0] in lot, (begin + word + word[0]).endswith(word))
+            self.assertEqual([lot.count_of(len(word) + more) for more in (-1, 0, 1, 3)], [0, 1, 37, 37 ** 3])
+            self.assertEqual(lot.words(2), sorted(["-" + word, word], key=len))
+
+
+class SizesOfLotsTest(LotChecks):
+    """Lots of few and of many states are equal if their words are, whichever way they were made."""
+
+    def test_states_around_forty(self):
+        for size in range(33, 46):
+            long = ("ab0" * 20)[:size]
+            pieces = begin_lot(long) & end_lot(long) & size_lot(size)
+            grown = (word_lot(long) | word_lot(long[:-1])) - word_lot(long[:-1])
+            for lot in (pieces, grown, word_lot(long) | none_lot(), word_lot(long) - none_lot(), none_lot() | word_lot(long)):
+                self.assertIs(lot == word_lot(long), True)
+                self.assertIs(word_lot(long) == lot, True)
+                self.assertIs(lot == word_lot(long[:-1] + "z"), False)
+                self.assertIs(lot == size_lot(size), False)
+                self.assertEqual((lot.words(2), lot.count(), lot.count_of(size), lot.least()), ([long], 1, 1, long))
+
+    def test_many_small_lots_together(self):
+        draw = drawn(9)
+        words = sorted({drawn_word(draw, 5) for _ in range(120)}, key=lambda word: (len(word), word))
+        whole, back, rest = none_lot(), none_lot(), every_lot()
+        for word in words:
+            whole, rest = whole | word_lot(word), rest - word_lot(word)
+        for word in reversed(words):
+            back = word_lot(word) | back
+        self.assertIs(whole == back, True)
+        self.assertIs(every_lot() - rest == whole, True)
+        self.assertEqual((whole.words(1000), whole.count(), whole.least()), (words, len(words), words[0]))
+        for word in words[::7]:
+            whole = whole - word_lot(word)
+            self.assertIs(whole == back, False)
+        self.assertEqual(whole.count(), len(words) - len(words[::7]))
+
+    def test_shapes_whose_states_multiply(self):
+        lot, other = every_lot(), none_lot()
+        for at in range(9):
+            shape = (ANY, ("text", str(at)), ("any", at % 4, 6), ANY)
+            lot, other = lot & shape_lot(shape), other | (every_lot() - shape_lot(shape))
+        self.assertIs(lot == every_lot() - other, True)
+        self.assertEqual(lot.least(), min(lot.words(1)))
+        self.assertTrue(all(str(at) in lot.least() for at in range(9)))
+
+    def test_counts_around_twelve(self):
+        lot = shape_lot((("letters", 0, None), ("digits", 0, None))) - begin_lot("a")
+        for size in range(1, 16):
+            every = sum(26 ** k * 10 ** (size - k) for k in range(size + 1))
+            begun = sum(26 ** k * 10 ** (size - 1 - k) for k in range(size))
+            self.assertEqual(lot.count_of(size), every - begun)
+
+    def test_no_long_wait(self):
+        # It took several times as long once. The least of many tries tells, whatever else the machine is doing.
+        tries = []
+        for _ in range(12):
+            begun = time.perf_counter()
+            for _ in range(10):
+                self.ask_often("ab-0" * 20 + "a")
+            tries.append(time.perf_counter() - begun)
+        self.assertLess(min(tries), 0.04)
+
+    def ask_often(self, long):
+        word_lot(long).words(2)
+        begin_lot(long).count_of(81)
+        end_lot(long).count_of(82)
+        begin_lot(long).least()
+        size_lot(200)
+        first = shape_lot((("letters", 1, 3), ("digits", 0, 2)))
+        second = shape_lot((("any", 1, None), ("text", "ab"), ("digits", 1, 4)))
+        ((first | second) - end_lot("ab-")).least()
+        (first & second).count_of(4)
 
 
 class ShowsTest(LotChecks):
