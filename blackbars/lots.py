@@ -3,7 +3,7 @@
 from blackbars.chains import begin_machine, end_machine, every_machine, none_machine, size_machine, word_machine
 from blackbars.machines import Machine, are_equal, least_machine, paired, shapes_machine
 from blackbars.paths import Paths
-from blackbars.reads import EVERY, shown_shape
+from blackbars.reads import ANYTHING, EVERY, shown_shape
 from blackbars.words import is_word
 
 # For what is taken of two lots: whether a word is kept that neither, the second, the first, both have; and which marks
@@ -11,14 +11,11 @@ from blackbars.words import is_word
 BOTH = ((0, 0, 0, 1), (0, 0))
 ONE = ((0, 1, 1, 1), (1, 1))
 FIRST_ALONE = ((0, 0, 1, 0), (0, 1))
-# Machines with more states are told with the fewest there can be; for smaller ones that is not worth the while,
-# unless they are put together with so large a one that their states multiply.
+# Machines with more states are told with the fewest there can be, unless two that are put together come to no more
+# states than both have; for small ones it is worth the while only where the states of both multiply.
 MOST_LOOSE = 40
+MOST_LOOSE_SUM = 400
 MOST_LOOSE_PAIRS = 600
-
-
-def _settled(machine):
-    return machine if len(machine.moves) <= MOST_LOOSE else least_machine(machine, machine.marks)
 
 
 def _tight(machine):
@@ -28,14 +25,10 @@ def _tight(machine):
 def _combined(first, second, way):
     if len(first.moves) * len(second.moves) > MOST_LOOSE_PAIRS:
         first, second = _tight(first), _tight(second)
-    return _settled(paired(first, second, way[0], way[1]))
-
-
-def _are_equal(first, second):
-    # Where the states are as few as can be, and numbered by least words, equal machines have equal tables.
-    if max(len(first.moves), len(second.moves)) > MOST_LOOSE:
-        return first.codes == second.codes and first.marks == second.marks and first.moves == second.moves
-    return are_equal(first, second)
+    machine = paired(first, second, way[0], way[1])
+    if len(machine.moves) <= max(MOST_LOOSE, min(MOST_LOOSE_SUM, len(first.moves) + len(second.moves))):
+        return machine
+    return least_machine(machine, machine.marks)
 
 
 class Lot:
@@ -57,7 +50,7 @@ class Lot:
     def __eq__(self, other):
         if not isinstance(other, Lot):
             return False
-        return _are_equal(self.machine, other.machine)
+        return are_equal(self.machine, other.machine)
 
     def __contains__(self, word):
         return is_word(word) and self.machine.marks[self.machine.run(0, word)] == 1
@@ -90,7 +83,9 @@ class Lot:
 
 def loose_lot(machine, marks):
     """Return the lot of the words that lead to the states of a machine that have a mark."""
-    return Lot(_settled(Machine(machine.codes, machine.moves, marks)))
+    if len(machine.moves) > MOST_LOOSE:
+        return least_lot(machine, marks)
+    return Lot(Machine(machine.codes, machine.moves, marks))
 
 
 def least_lot(machine, marks):
@@ -98,8 +93,26 @@ def least_lot(machine, marks):
     return Lot(least_machine(machine, marks))
 
 
+def _lot_at_once(shape):
+    """Return the lot of a shape that says no more than a word, a begin, an end or a size; None for other shapes."""
+    kinds = [run[0] for run in shape]
+    if kinds == ["text"]:
+        return word_lot(shape[0][1])
+    if kinds == ["any"]:
+        _, low, high = shape[0]
+        if low == high:
+            return size_lot(low)
+        return every_lot() if low < 2 and high is None else None
+    if kinds == ["text", "any"] and shape[1] == ANYTHING:
+        return begin_lot(shape[0][1])
+    return end_lot(shape[1][1]) if kinds == ["any", "text"] and shape[0] == ANYTHING else None
+
+
 def shape_lot(shape):
     """Return the lot of the words that fit a shape."""
+    lot = _lot_at_once(shape)
+    if lot is not None:
+        return lot
     machine, _ = shapes_machine([shape])
     return loose_lot(machine, [1 if mark else 0 for mark in machine.marks])
 

@@ -4,7 +4,7 @@ The states are numbered in the order of the least words that lead to them, the s
 no character has been read. All states are led to by some word.
 """
 
-from blackbars.least import least_tables
+from blackbars.least import least_tables, merged_tables
 from blackbars.strips import Strips
 from blackbars.words import CHARACTERS, PLACE_OF
 
@@ -49,15 +49,13 @@ def _common_groups(first, second):
     return [number[pair] for pair in pairs], [pair[0] for pair in kinds], [pair[1] for pair in kinds]
 
 
-def _rows(machine, groups, many, deciding):
-    """Return the rows of a machine for some groups, in which each state is told as so many times its number.
-
-    A state that leads to itself alone and has the deciding mark is told as a number that makes each sum with
-    a state of another machine less than 0.
-    """
-    names = [many * state if mark != deciding or row[0] != state or row != [state] * len(row) else -FAR
-             for state, (row, mark) in enumerate(zip(machine.moves, machine.marks))]
-    return names, [[names[row[group]] for group in groups] for row in machine.moves]
+def _names(machine, many, deciding):
+    """Return for each state so many times its number; for one that keeps a deciding mark, a number far below 0."""
+    names = [many * state for state in range(len(machine.moves))]
+    for state, row in enumerate(machine.moves):
+        if row[0] == state and machine.marks[state] == deciding and row == [state] * len(row):
+            names[state] = -FAR
+    return names
 
 
 def _pairs(first, second, deciding):
@@ -68,23 +66,28 @@ def _pairs(first, second, deciding):
     """
     codes, first_groups, second_groups = _common_groups(first, second)
     many = len(second.moves)
-    names, first_rows = _rows(first, first_groups, many, deciding[0])
-    other_names, second_rows = _rows(second, second_groups, 1, deciding[1])
+    names, other_names = _names(first, many, deciding[0]), _names(second, 1, deciding[1])
+    # Rows of names for the common groups, of the states that are come to.
+    rows, other_rows = [None] * len(first.moves), [None] * many
     keys = [max(names[0] + other_names[0], -1)]
     number = {keys[0]: 0}
     moves = []
     while len(moves) < len(keys):
-        key = keys[len(moves)]
-        if key < 0:
+        if keys[len(moves)] < 0:
             moves.append([len(moves)] * len(first_groups))
             continue
+        state, other = divmod(keys[len(moves)], many)
+        if rows[state] is None:
+            rows[state] = [names[first.moves[state][group]] for group in first_groups]
+        if other_rows[other] is None:
+            other_rows[other] = [other_names[second.moves[other][group]] for group in second_groups]
         row = []
-        for one, other in zip(first_rows[key // many], second_rows[key % many]):
-            further = one + other if one + other >= 0 else -1
-            if further not in number:
-                number[further] = len(keys)
-                keys.append(further)
-            row.append(number[further])
+        for one, two in zip(rows[state], other_rows[other]):
+            key = one + two if one + two >= 0 else -1
+            if key not in number:
+                number[key] = len(keys)
+                keys.append(key)
+            row.append(number[key])
         moves.append(row)
     return codes, keys, moves
 
@@ -99,27 +102,32 @@ def paired(first, second, keep, deciding):
     many = len(second.moves)
     decided = keep[2 * deciding[0]]
     marks = [keep[2 * first.marks[key // many] + second.marks[key % many]] if key >= 0 else decided for key in keys]
+    codes, moves = merged_tables(codes, moves)
     return Machine(codes, moves, marks)
 
 
 def are_equal(first, second):
-    """Return whether two machines mark all words alike."""
+    """Return whether two machines with marks 0 and 1 mark all words alike."""
     if first.codes == second.codes and first.moves == second.moves:
         return first.marks == second.marks
-    _, first_groups, second_groups = _common_groups(first, second)
-    many = len(second.moves)
-    _, first_rows = _rows(first, first_groups, many, None)
-    _, second_rows = _rows(second, second_groups, 1, None)
-    met = {0: True}
-    todo = [0]
+    groups = list({pair: True for pair in zip(first.codes, second.codes)})
+    met = {(0, 0): True}
+    todo = [(0, 0)]
+    most = 4 * (len(first.moves) + len(second.moves))
     while todo:
-        state, other = divmod(todo.pop(), many)
+        state, other = todo.pop()
         if first.marks[state] != second.marks[other]:
             return False
-        for key in [one + two for one, two in zip(first_rows[state], second_rows[other])]:
-            if key not in met:
-                met[key] = True
-                todo.append(key)
+        if len(met) > most:
+            # Where states multiply, it is told by the fewest states, which are numbered by least words.
+            return least_tables(first.codes, first.moves, first.marks) == least_tables(
+                second.codes, second.moves, second.marks)
+        row, other_row = first.moves[state], second.moves[other]
+        for group, other_group in groups:
+            pair = (row[group], other_row[other_group])
+            if pair not in met:
+                met[pair] = True
+                todo.append(pair)
     return True
 
 

@@ -58,12 +58,11 @@ class Paths:
         return self._edges[state]
 
     def choices(self, state):
-        """Return the list of the tuples (character, state) for the moves from a state, ascending."""
+        """Return the list of the tuples (group of characters, state) for the moves from a state."""
         if state not in self._choices:
             distances = self.distances()
             pairs = zip(self.groups, self.machine.moves[state])
-            found = [(char, target) for group, target in pairs if distances[target] is not None for char in group]
-            self._choices[state] = sorted(found)
+            self._choices[state] = [pair for pair in pairs if distances[pair[1]] is not None]
         return self._choices[state]
 
     def counts_from(self, start):
@@ -171,9 +170,17 @@ class Paths:
         for goal in goals[-2::-1]:
             longer = []
             for word, state in found:
-                for char, target in self._choices.get(state) or self.choices(state):
-                    if target in goal:
+                ways = self._choices.get(state) or self.choices(state)
+                # From each of these states a way leads on; if there is just one, it does.
+                if len(ways) > 1:
+                    ways = [way for way in ways if way[1] in goal]
+                if len(ways) == 1:
+                    group, target = ways[0]
+                    for char in group:
                         longer.append((word + char, target))
+                else:
+                    steps = sorted([(char, target) for group, target in ways for char in group])
+                    longer.extend([(word + char, target) for char, target in steps])
                 if len(longer) >= most:
                     break
             found = longer[:most]

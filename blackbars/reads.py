@@ -3,6 +3,7 @@
 from blackbars.words import is_word
 
 EVERY = (("any", 1, None),)
+ANYTHING = ("any", 0, None)
 
 
 def exact_shape(word):
@@ -12,12 +13,12 @@ def exact_shape(word):
 
 def begin_shape(word):
     """Return the shape of the words that begin with a word."""
-    return (("text", word), ("any", 0, None))
+    return (("text", word), ANYTHING)
 
 
 def end_shape(word):
     """Return the shape of the words that end with a word."""
-    return (("any", 0, None), ("text", word))
+    return (ANYTHING, ("text", word))
 
 
 def size_shape(size):

@@ -75,7 +75,8 @@ class Trail:
 
     def words(self):
         """Return the lot of the words that go with all sightings."""
-        for at in range(len(self._lots), len(self._sightings)):
+        many = len(self._lots)
+        for at in range(many, len(self._sightings)):
             self._lots.append(self._lot_at(at))
             self._whole.append(self._whole[at] & self._lots[at])
         return self._whole[-1]

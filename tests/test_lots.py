@@ -8,6 +8,7 @@ from blackbars import lots
 from blackbars.lots import (
     Lot, act_lot, begin_lot, end_lot, every_lot, none_lot, shape_lot, size_lot, view_lot, word_lot,
 )
+from blackbars.machines import Machine
 from blackbars.shapes import count_words
 from tests.helper import (
     CHARACTERS, DIGITS, EVERY, LETTERS, Checks, any_values, drawn, drawn_act, drawn_shape, drawn_view, drawn_word,
@@ -362,6 +363,21 @@ class SizesOfLotsTest(LotChecks):
         self.assertIs(lot == every_lot() - other, True)
         self.assertEqual(lot.least(), min(lot.words(1)))
         self.assertTrue(all(str(at) in lot.least() for at in range(9)))
+
+    def test_states_that_multiply_where_they_are_compared(self):
+        # All words, told by circles of states; what differs is found far off.
+        def circle(many, unmarked=None):
+            marks = [0] + [1] * many
+            if unmarked is not None:
+                marks[unmarked] = 0
+            return Lot(Machine([0] * 37, [[at + 1] for at in range(many)] + [[1]], marks))
+
+        self.assertIs(circle(30) == circle(31), True)
+        self.assertIs(circle(30) == every_lot(), True)
+        self.assertIs(circle(30) == circle(31, 31), False)
+        self.assertIs(circle(30, 30) == circle(15, 15), False)
+        self.assertIs((circle(30, 30) | circle(30, 15)) == every_lot(), True)
+        self.assertIs((circle(30, 30) & circle(30, 15)) == circle(15, 15), True)
 
     def test_counts_around_twelve(self):
         lot = shape_lot((("letters", 0, None), ("digits", 0, None))) - begin_lot("a")
