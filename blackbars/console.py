@@ -71,6 +71,7 @@ class Console:
         self._case = None
 
     def __call__(self, command):
+        """Execute a command and return a text."""
         word, told = _read(command)
         if word in ("view", "secret", "clear"):
             return self._changed(word, told)

@@ -6,8 +6,8 @@ from blackbars.paths import Paths
 from blackbars.reads import ANYTHING, EVERY, shown_shape
 from blackbars.words import is_word
 
-# For what is taken of two lots: whether a word is kept that neither, the second, the first, both have; and which marks
-# decide that alone if they stay, one of the first machine and one of the second.
+# For each way to put two lots together: whether words are kept that neither, the second, the first, both have; and
+# which mark of the first machine, and of the second, decides that alone if it does not change any more.
 BOTH = ((0, 0, 0, 1), (0, 0))
 ONE = ((0, 1, 1, 1), (1, 1))
 FIRST_ALONE = ((0, 0, 1, 0), (0, 1))
@@ -19,6 +19,7 @@ MOST_LOOSE_PAIRS = 600
 
 
 def _tight(machine):
+    """Return a machine, a small one with the fewest states there can be."""
     return machine if len(machine.moves) > MOST_LOOSE else least_machine(machine, machine.marks)
 
 

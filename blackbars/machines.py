@@ -66,9 +66,11 @@ def _pairs(first, second, deciding):
     """
     codes, first_groups, second_groups = _common_groups(first, second)
     many = len(second.moves)
-    names, other_names = _names(first, many, deciding[0]), _names(second, 1, deciding[1])
+    names = _names(first, many, deciding[0])
+    other_names = _names(second, 1, deciding[1])
     # Rows of names for the common groups, of the states that are come to.
-    rows, other_rows = [None] * len(first.moves), [None] * many
+    rows = [None] * len(first.moves)
+    other_rows = [None] * many
     keys = [max(names[0] + other_names[0], -1)]
     number = {keys[0]: 0}
     moves = []
