@@ -53,20 +53,27 @@ def _finished(moves, begun):
     return blocks
 
 
+def _numbered(keys):
+    """Return a number for each of some keys, the same one for equal keys, from 0 on."""
+    number = {}
+    found = []
+    for key in keys:
+        found.append(number.setdefault(key, len(number)))
+    return found
+
+
 def _blocks(moves, marks):
     """Return for each state the number of its block: the states that mark alike whatever follows."""
-    number = {}
-    blocks = [number.setdefault(mark, len(number)) for mark in marks]
+    blocks = _numbered(marks)
     if len(moves) > MOST_AT_ONCE:
         return _finished(moves, blocks)
     columns = list(zip(*moves))
     # Few rounds over all states are enough for most machines; what takes more is parted state by state.
     for _ in range(ROUNDS):
-        many = len(number)
+        many = max(blocks)
         told = [[blocks[target] for target in column] for column in columns]
-        number = {}
-        blocks = [number.setdefault(key, len(number)) for key in zip(blocks, *told)]
-        if len(number) == many:
+        blocks = _numbered(list(zip(blocks, *told)))
+        if max(blocks) == many:
             return blocks
     return _finished(moves, blocks)
 
