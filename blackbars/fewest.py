@@ -3,7 +3,7 @@
 from blackbars.atlas import atlas_of
 from blackbars.cases import MOST_NUMBER, ahead_of, check_number, word_behind
 from blackbars.sparse import least_below, least_many
-from blackbars.words import lesser_log, lesser_word
+from blackbars.words import lesser_log, lesser_word, word_key
 
 
 def _told_groups(names, other, many, kinds):
@@ -47,8 +47,13 @@ def _begin(ahead):
 def _least_alone(sight, ahead, number):
     """Return the least log that ends with a secret behind a word that is hidden among fewer words, or None."""
     word = None
-    for part in sight.parts():
-        word = lesser_word(word, least_below(part, number))
+    for least, kinds in sight.least_kinds():
+        # All words of this part, and of those behind it, come behind its least one.
+        if word is not None and word_key(word) < word_key(least):
+            break
+        # What is kept is hidden alone.
+        found = least if ("keep", 0) in kinds else least_below(sight.part_with(kinds), number)
+        word = lesser_word(word, found)
     return None if word is None else [_begin(ahead) + [word]]
 
 

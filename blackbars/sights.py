@@ -52,24 +52,30 @@ class Sight:
         least = min([states[0] for states in self._states.values()], default=None)
         return None if least is None else self._atlas.least_words()[least]
 
-    def _part(self, kinds):
+    def part_with(self, kinds):
+        """Return the part of the secrets of which some kinds are shown."""
         if kinds not in self._parts:
             self._parts[kinds] = Part(self._lot_of(self._states[kinds]), kinds)
         return self._parts[kinds]
 
+    def least_kinds(self):
+        """Return the list of the tuples (least secret, kinds of what is shown of it) for the parts, in order."""
+        pairs = sorted([(states[0], kinds) for kinds, states in self._states.items()])
+        return [(self._atlas.least_words()[state], kinds) for state, kinds in pairs]
+
     def parts(self):
         """Return the list of all parts."""
-        return [self._part(kinds) for kinds in self._states]
+        return [self.part_with(kinds) for kinds in self._states]
 
     def part_of(self, word):
         """Return the part of a secret."""
-        return self._part(self._kinds_of(self._atlas.label(word)))
+        return self.part_with(self._kinds_of(self._atlas.label(word)))
 
     def least_unlike(self, word):
         """Return the least secret of which the views show other than of a secret, or None."""
         if word not in self._unlike:
             own = self._kinds_of(self._atlas.label(word))
-            best = self._part(own).least_unlike(word)
+            best = self.part_with(own).least_unlike(word)
             for kinds, states in self._states.items():
                 if kinds != own:
                     best = lesser_word(best, self._atlas.least_words()[states[0]])
